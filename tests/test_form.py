@@ -1,0 +1,69 @@
+"""The form of the package's files, as far as a simple look can tell: sizes, signs, imports, and what they may not use."""
+
+import ast
+import pathlib
+import unittest
+
+import wobblesnap
+
+FOLDER = pathlib.Path(wobblesnap.__file__).parent
+BARRED_NODES = (ast.AsyncFunctionDef, ast.AsyncFor, ast.AsyncWith, ast.Await, ast.Import, ast.TryStar, ast.Div)
+BARRED_NAMES = {
+    "open", "input", "eval", "exec", "compile", "vars", "globals", "locals", "print", "round", "float", "filter",
+    "hash", "id", "sys", "os", "register", "mro", "law", "elements", "frozenset", "chr",
+}
+DECORATORS = {"property", "staticmethod", "classmethod"}
+LIBRARY = {"heapq", "math", "itertools", "collections"}
+
+
+def files():
+    """Each file of the package, with its text."""
+    return [(path, path.read_text(encoding="utf-8")) for path in sorted(FOLDER.rglob("*.py"))]
+
+
+def nodes_of(path, text):
+    """Each node of a file's code."""
+    return list(ast.walk(ast.parse(text, str(path))))
+
+
+class Form(unittest.TestCase):
+
+    def test_the_folder_contains_nothing_else(self):
+        found = [path for path in FOLDER.rglob("*") if "__pycache__" not in path.parts]
+        self.assertEqual([path for path in found if path.suffix != ".py"], [])
+
+    def test_signs_and_sizes(self):
+        for path, text in files():
+            with self.subTest(path.name):
+                self.assertTrue(all(sign == "\n" or " " <= sign <= "~" for sign in text))
+                self.assertLessEqual(text.count("\n"), 399)
+                self.assertLessEqual(max(map(len, text.split("\n"))), 120)
+
+    def test_functions_are_small(self):
+        for path, text in files():
+            for node in nodes_of(path, text):
+                if isinstance(node, ast.FunctionDef):
+                    with self.subTest(path.name, function=node.name):
+                        self.assertLessEqual(node.end_lineno - node.lineno + 1, 40)
+
+    def test_imports_are_of_the_package(self):
+        for path, text in files():
+            for node in nodes_of(path, text):
+                if isinstance(node, ast.ImportFrom):
+                    with self.subTest(path.name, line=node.lineno):
+                        self.assertEqual(node.level, 0)
+                        self.assertIn(node.module.split(".")[0], LIBRARY | {"wobblesnap"})
+                        self.assertTrue(all(alias.name != "*" and alias.asname is None for alias in node.names))
+
+    def test_what_is_not_used(self):
+        for path, text in files():
+            for node in nodes_of(path, text):
+                with self.subTest(path.name, line=getattr(node, "lineno", 0)):
+                    self.assertNotIsInstance(node, BARRED_NODES)
+                    if isinstance(node, ast.Name):
+                        self.assertNotIn(node.id, BARRED_NAMES)
+                    if isinstance(node, ast.Constant):
+                        self.assertNotIsInstance(node.value, (float, complex))
+                    if isinstance(node, (ast.FunctionDef, ast.ClassDef)):
+                        told = [ast.unparse(row) for row in node.decorator_list]
+                        self.assertTrue(all(row in DECORATORS or row.endswith(".setter") for row in told))

@@ -1,0 +1,76 @@
+"""The interface: which names each landed module defines, what their parameters are called, what is set on objects."""
+
+import copy
+import importlib
+import inspect
+import unittest
+
+from wobblesnap.books import Book
+from wobblesnap.bounds import least_way, settled, shows_settled
+from wobblesnap.errors import DrawError
+
+FUNCTIONS = {
+    "wobblesnap.bounds": {
+        "settled": ["bounds"],
+        "shows_settled": ["bounds", "value"],
+        "least_way": ["bounds", "one", "other"],
+    },
+}
+CLASSES = {
+    "wobblesnap.books": {"Book": ["text"]},
+}
+
+
+def defined(module, name):
+    """What the module has under this name."""
+    return getattr(importlib.import_module(module), name)
+
+
+class Names(unittest.TestCase):
+
+    def test_functions_are_defined_in_their_files(self):
+        for module, functions in FUNCTIONS.items():
+            for name, parameters in functions.items():
+                with self.subTest(module=module, name=name):
+                    function = defined(module, name)
+                    self.assertTrue(inspect.isfunction(function))
+                    self.assertEqual((function.__module__, function.__name__), (module, name))
+                    self.assertEqual(list(inspect.signature(function).parameters), parameters)
+
+    def test_classes_are_defined_in_their_files(self):
+        for module, classes in CLASSES.items():
+            for name, parameters in classes.items():
+                with self.subTest(module=module, name=name):
+                    found = defined(module, name)
+                    self.assertTrue(inspect.isclass(found))
+                    self.assertEqual((found.__module__, found.__name__), (module, name))
+                    self.assertEqual(list(inspect.signature(found).parameters), parameters)
+
+    def test_the_only_argument_of_an_error(self):
+        self.assertEqual(list(inspect.signature(DrawError).parameters), ["value"])
+
+    def test_the_attributes_of_a_book_are_set_when_it_is_created(self):
+        self.assertEqual(
+            vars(Book("among eldest\nlevel 3")),
+            {"text": "among eldest\nlevel 3", "among": "eldest", "rules": (("level", 3),)},
+        )
+
+    def test_the_operators_of_a_book_are_its_own(self):
+        for name in ("__init__", "__eq__", "__len__", "__contains__", "__getitem__"):
+            self.assertIn(name, vars(Book))
+
+
+class Arguments(unittest.TestCase):
+
+    def test_they_are_not_changed(self):
+        odd = [["a", {"b": [1, ("c", [True])]}], {"values": [("0", 0)]}, ("ring", [["a", "b", 1]], {0: {}})]
+        before = copy.deepcopy(odd)
+        for value in odd:
+            shows_settled((("a", "b", 1),), value)
+            shows_settled((), ("ring", (value,)))
+            for call in (lambda: settled((value,)), lambda: least_way((), value, "a"), lambda: Book(value),
+                         lambda: Book("among eldest\nlevel 3")[value]):
+                with self.assertRaises(DrawError):
+                    call()
+            self.assertNotIn(value, Book("among eldest\nlevel 3"))
+        self.assertEqual(odd, before)

@@ -1,0 +1,1 @@
+"""wobblesnap: drawings clicked by a hand that wobbles."""
