@@ -3,6 +3,7 @@
 import unittest
 
 from wobblesnap.books import Book
+from wobblesnap.plans import Plan
 
 
 def nested(value, deep, wrap):
@@ -20,7 +21,7 @@ def odd_values():
         (), (0,), ("a",), ("a", "b"), ("a", "b", 1), (("a", "b", 1),), (None,), (True, False),
         [], [0], ["a", "b", 1], [("a", "b", 1)], [[]], [None],
         {}, {"a": 1}, {"a": {"b": [1]}}, {0: ("a", "b", 1)},
-        Book("among eldest\nlevel 3"),
+        Book("among eldest\nlevel 3"), Plan("hand 3\npoint a at 0 0"), (Plan("hand 0\npoint b at 1 1"), 1),
         nested("a", 30, lambda value: (value,)),
         nested(1, 30, lambda value: [value]),
         nested(None, 30, lambda value: {"a": value}),

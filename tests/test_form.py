@@ -12,6 +12,8 @@ BARRED_NAMES = {
     "open", "input", "eval", "exec", "compile", "vars", "globals", "locals", "print", "round", "float", "filter",
     "hash", "id", "sys", "os", "register", "mro", "law", "elements", "frozenset", "chr",
 }
+# Words that stand nowhere in a file but in comments and docstrings, and marks that some names may not begin with.
+BARRED_WORDS = ("type", "typing", "enum", "Enum", "Generic", "Protocol", "ABC", "namedtuple", "NamedTuple", "TypedDict")
 DECORATORS = {"property", "staticmethod", "classmethod"}
 LIBRARY = {"heapq", "math", "itertools", "collections"}
 
@@ -54,6 +56,34 @@ class Form(unittest.TestCase):
                         self.assertEqual(node.level, 0)
                         self.assertIn(node.module.split(".")[0], LIBRARY | {"wobblesnap"})
                         self.assertTrue(all(alias.name != "*" and alias.asname is None for alias in node.names))
+
+    def test_words_that_are_barred(self):
+        for path, text in files():
+            with self.subTest(path.name):
+                self.assertNotIn("_wall", text)
+                self.assertNotIn("metaclass", text)
+            for node in nodes_of(path, text):
+                name = getattr(node, "id", None) or getattr(node, "attr", None) or getattr(node, "name", None)
+                if isinstance(name, str):
+                    with self.subTest(path.name, name=name):
+                        self.assertNotIn(name, BARRED_WORDS)
+
+    def test_all_and_any_take_lists(self):
+        for path, text in files():
+            for node in nodes_of(path, text):
+                with self.subTest(path.name, line=getattr(node, "lineno", 0)):
+                    self.assertNotIsInstance(node, ast.GeneratorExp)
+
+    def test_no_two_files_import_from_each_other(self):
+        imports = {}
+        for path, text in files():
+            found = [node.module for node in nodes_of(path, text) if isinstance(node, ast.ImportFrom)]
+            imports["wobblesnap." + path.stem] = found
+        done = set()
+        while len(done) < len(imports):
+            ready = [name for name in imports if name not in done and done.issuperset(set(imports[name]) & set(imports))]
+            self.assertNotEqual(ready, [], "these import from each other")
+            done.update(ready)
 
     def test_what_is_not_used(self):
         for path, text in files():

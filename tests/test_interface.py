@@ -7,7 +7,11 @@ import unittest
 
 from wobblesnap.books import Book
 from wobblesnap.bounds import least_way, settled, shows_settled
+from wobblesnap.drawing import drawn, is_steady, taken
 from wobblesnap.errors import DrawError
+from wobblesnap.judging import shows_sure, sure
+from wobblesnap.plans import Plan
+from wobblesnap.wishes import kept
 
 FUNCTIONS = {
     "wobblesnap.bounds": {
@@ -15,9 +19,23 @@ FUNCTIONS = {
         "shows_settled": ["bounds", "value"],
         "least_way": ["bounds", "one", "other"],
     },
+    "wobblesnap.drawing": {
+        "drawn": ["book", "plan", "hands"],
+        "taken": ["book", "plan", "hands"],
+        "is_steady": ["book", "plan", "hands"],
+    },
+    "wobblesnap.wishes": {
+        "kept": ["book", "plan", "wish", "hands"],
+    },
+    "wobblesnap.judging": {
+        "cases": ["book", "plan"],
+        "sure": ["book", "plan", "wish"],
+        "shows_sure": ["book", "plan", "wish", "value"],
+    },
 }
 CLASSES = {
     "wobblesnap.books": {"Book": ["text"]},
+    "wobblesnap.plans": {"Plan": ["text"]},
 }
 
 
@@ -55,9 +73,20 @@ class Names(unittest.TestCase):
             {"text": "among eldest\nlevel 3", "among": "eldest", "rules": (("level", 3),)},
         )
 
-    def test_the_operators_of_a_book_are_its_own(self):
+    def test_the_attributes_of_a_plan_are_set_when_it_is_created(self):
+        found = vars(Plan("hand 3\npoint a at 0 0\npoint b at 1 1\nwall a b"))
+        self.assertEqual(
+            {name: found[name] for name in ("text", "hand", "points", "walls")},
+            {"text": "hand 3\npoint a at 0 0\npoint b at 1 1\nwall a b", "hand": 3, "points": ("a", "b"),
+             "walls": (("a", "b"),)},
+        )
+
+    def test_the_methods_of_a_class_are_its_own(self):
         for name in ("__init__", "__eq__", "__len__", "__contains__", "__getitem__"):
             self.assertIn(name, vars(Book))
+            self.assertIn(name, vars(Plan))
+        self.assertEqual(list(inspect.signature(Plan.by_hand).parameters), ["self", "bound"])
+        self.assertIn("by_hand", vars(Plan))
 
 
 class Arguments(unittest.TestCase):
@@ -74,3 +103,24 @@ class Arguments(unittest.TestCase):
                     call()
             self.assertNotIn(value, Book("among eldest\nlevel 3"))
         self.assertEqual(odd, before)
+
+    def test_they_are_not_changed_by_what_plans_are_asked(self):
+        odd = [["a", {"b": [1, ("c", [True])]}], {"sure": [("fine",)]}, ["never", "x", [("a", "0", 1)]], {0: {}}]
+        before = copy.deepcopy(odd)
+        book, plan = Book("among eldest\nlevel 3"), Plan("hand 3\npoint a at 0 0\npoint b by a 9 0")
+        texts = book.text, plan.text
+        wish, hands = ("level", "a", "b"), ((0, 0), (9, 0))
+        for value in odd:
+            shows_sure(book, plan, wish, ("sure", value))
+            shows_sure(book, plan, wish, ("sure", ("never", "x", (value,))))
+            for call in (
+                lambda: Plan(value), lambda: plan[value], lambda: plan.by_hand(value), lambda: sure(book, plan, value),
+                lambda: drawn(book, plan, value), lambda: taken(book, plan, (value, value)),
+                lambda: is_steady(book, plan, ((0, 0), value)), lambda: kept(book, plan, value, hands),
+                lambda: kept(book, plan, wish, value),
+            ):
+                with self.assertRaises(DrawError):
+                    call()
+            self.assertNotIn(value, plan)
+        self.assertEqual(odd, before)
+        self.assertEqual((book.text, plan.text), texts)

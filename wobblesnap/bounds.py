@@ -23,7 +23,8 @@ def shows_settled(bounds, value):
     kind, found = value
     if kind == "values":
         return are_values(bounds, found)
-    return kind == "ring" and is_ring_below_zero(bounds, found)
+    known = {bound: True for bound in bounds}
+    return kind == "ring" and is_ring_below_zero(found) and all([step in known for step in found])
 
 
 def least_way(bounds, one, other):
@@ -138,15 +139,10 @@ def is_worth(value):
     return isinstance(value, tuple) and len(value) == 2 and isinstance(value[0], str) and is_integer(value[1])
 
 
-def is_ring_below_zero(bounds, value):
-    """Whether any value is a ring of these bounds with a sum below 0."""
-    if not isinstance(value, tuple) or len(value) == 0:
+def is_ring_below_zero(value):
+    """Whether any value is a ring of some bounds with a sum below 0."""
+    if not isinstance(value, tuple) or len(value) == 0 or not all([is_bound(step) for step in value]):
         return False
-    known = set(bounds)
-    for step in value:
-        # True is equal to 1 in a tuple, too: so the form is looked at first.
-        if not is_bound(step) or step not in known:
-            return False
     return is_closed(value) and sum([step[2] for step in value]) < 0
 
 

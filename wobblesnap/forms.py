@@ -1,9 +1,10 @@
-"""What all of the package means by an integer, a name, and a number in a text."""
+"""What all of the package means by an integer, a name, a place, an axis, and a number in a text."""
 
 LETTERS = "abcdefghijklmnopqrstuvwxyz"
 DIGITS = "0123456789"
 LONGEST_NAME = 8
 LONGEST_NUMBER = 9
+AXES = ("x", "y")
 
 
 def is_integer(value):
@@ -15,6 +16,16 @@ def is_integer(value):
 def is_name(value):
     """Whether any value is a name."""
     return isinstance(value, str) and 1 <= len(value) <= LONGEST_NAME and consists_of(value, LETTERS)
+
+
+def is_place(value):
+    """Whether any value is a place."""
+    return isinstance(value, tuple) and len(value) == 2 and is_integer(value[0]) and is_integer(value[1])
+
+
+def is_axis(value):
+    """Whether any value is an axis."""
+    return isinstance(value, str) and value in AXES
 
 
 def consists_of(text, signs):
@@ -31,3 +42,13 @@ def number_in(word, low, high):
     if str(number) != word or not low <= number <= high:
         return None
     return number
+
+
+def signed_number_in(word, most):
+    """The number that a word of a text is, "-" being ahead below 0, if it is one from -most to most, otherwise None."""
+    if not word.startswith("-"):
+        return number_in(word, 0, most)
+    number = number_in(word[1:], 1, most)
+    if number is None:
+        return None
+    return -number

@@ -1,0 +1,77 @@
+"""Whether all steady hands keep a wish: a tree of cases tells it, or hands by which it is not kept."""
+
+from wobblesnap.bounds import ZERO
+from wobblesnap.drawing import is_hands, is_steady
+from wobblesnap.errors import TooMany
+from wobblesnap.forms import AXES
+from wobblesnap.going import Going, goes_on
+from wobblesnap.rules import hand_of
+from wobblesnap.trees import is_right_tree, tree_of
+from wobblesnap.wishes import answer_of, check_wish, kept
+
+MOST_CASES = 400
+
+
+def cases(book, plan):
+    """Of how many cases steady hands are."""
+    return len(all_cases(book, plan))
+
+
+def sure(book, plan, wish):
+    """("sure", tree) if all steady hands keep the wish, otherwise ("fails", hands) with some that do not."""
+    check_wish(plan.points, wish)
+    leaves = []
+    pending = all_cases(book, plan)[::-1]
+    while len(pending) > 0:
+        going, answers = pending.pop()
+        answer = answer_of(going, wish)
+        if answer is None:
+            pending.extend(both_answers(going, answers))
+        elif answer:
+            leaves.append(answers)
+        else:
+            return "fails", some_hands(plan, going)
+    return "sure", tree_of(leaves)
+
+
+def shows_sure(book, plan, wish, value):
+    """Whether any value is a right answer of sure."""
+    check_wish(plan.points, wish)
+    all_cases(book, plan)
+    if not isinstance(value, tuple) or len(value) != 2:
+        return False
+    kind, told = value
+    if kind == "fails":
+        return is_hands(plan, told) and is_steady(book, plan, told) and not kept(book, plan, wish, told)
+    return kind == "sure" and is_right_tree(book, plan, told, lambda going: answer_of(going, wish) is True)
+
+
+def all_cases(book, plan):
+    """For each case (going, answers): all its bounds, and the (question, answer) that told it from the others."""
+    found = []
+    pending = [(Going(), (), 0)]
+    while len(pending) > 0:
+        going, answers, at = pending.pop()
+        while at < len(plan) and goes_on(going, book, plan, at):
+            at += 1
+        if at == len(plan):
+            found.append((going, answers))
+        else:
+            # The rules ask again what they asked of this point, and get the same answers.
+            pending.extend([(twin, longer, at) for twin, longer in both_answers(going, answers)])
+        # Each one that is pending leads to one case at least.
+        if len(found) + len(pending) > MOST_CASES:
+            raise TooMany(MOST_CASES)
+    return found
+
+
+def both_answers(going, answers):
+    """The (going, answers) for no, and for yes, to the question at which the going stopped."""
+    question = going.question
+    return [(going.branched(question, answer), answers + ((question, answer),)) for answer in (False, True)]
+
+
+def some_hands(plan, going):
+    """Hands by which all bounds of a going are kept that went through the plan."""
+    # The greatest values that bounds leave, each one for itself, keep them all together.
+    return tuple([tuple([going.ways[axis].least(hand_of(name), ZERO) for axis in AXES]) for name in plan.points])
