@@ -11,8 +11,11 @@ NAMES = ("a", "b", "c", "d", "e", "f")
 def deal_book(dealt, words=("corner", "wall", "level", "straight", "grid")):
     """A book of some of these rules."""
     rules = dealt.sample(words, dealt.randint(1, min(3, len(words))))
-    lines = [f"{word} {dealt.randint(2, 5) if word == 'grid' else dealt.choice((0, 1, 1, 2, 2, 3, 5))}" for word in rules]
-    return Book("\n".join(["among " + dealt.choice(("eldest", "latest"))] + lines))
+    lines = ["among " + dealt.choice(("eldest", "latest"))]
+    for word in rules:
+        number = dealt.randint(2, 5) if word == "grid" else dealt.choice((0, 1, 1, 2, 2, 3, 5))
+        lines.append(f"{word} {number}")
+    return Book("\n".join(lines))
 
 
 def deal_plan(dealt, many=3, hand=1, walls=2, reach=4):

@@ -81,7 +81,7 @@ class Form(unittest.TestCase):
             imports["wobblesnap." + path.stem] = found
         done = set()
         while len(done) < len(imports):
-            ready = [name for name in imports if name not in done and done.issuperset(set(imports[name]) & set(imports))]
+            ready = [name for name in imports if name not in done and set(imports[name]) & set(imports) <= done]
             self.assertNotEqual(ready, [], "these import from each other")
             done.update(ready)
 

@@ -1,8 +1,6 @@
 """Section 9: cases and sure, and the guarantees of section 3 as far as they speak of them."""
 
-import itertools
 import random
-import unittest
 
 from tests.dealt import deal_book, deal_plan, deal_wish
 from tests.odd import RefusingTestCase, odd_values
@@ -200,6 +198,17 @@ class Sure(Judged):
         for x, told in ((4, "fails"), (5, "sure"), (35, "sure"), (36, "fails")):
             self.assertEqual(sure(book, Plan(text.format(x)), ("on", "c", "a", "b"))[0], told)
 
+    def test_hands_by_which_a_point_is_on_no_wall(self):
+        # By the greatest places of all hands, and by the least ones, c is on the wall; by others it is not.
+        for turn in (False, True):
+            plan = Plan("hand 1\npoint a at 0 0\npoint b at 40 0\npoint c at 20 0")
+            for wish in (("on", "c", "a", "b"), ("on", "c", "b", "a")):
+                self.check_fails(Book("among eldest\ncorner 0"), turned(plan) if turn else plan, wish)
+        # On the one wall, or on the other one: so the first comparison alone tells nothing.
+        plan = Plan("hand 0\npoint a at 0 0\npoint b at 0 0 within 2\npoint c at 1 1 within 1")
+        for wish in (("on", "c", "a", "b"), ("on", "a", "b", "c"), ("on", "b", "c", "a")):
+            self.check_fails(Book("among eldest\ncorner 0"), plan, wish)
+
     def test_apart_in_one_axis_or_in_the_other(self):
         # By a grid b is off by nothing, or by one step at least, in x or in y.
         book = Book("among eldest\ngrid 6")
@@ -220,8 +229,8 @@ class Sure(Judged):
 
     def test_six_points_and_four_walls(self):
         plan = Plan(
-            "hand 2\npoint a at -999 999\npoint b by a 60 0\npoint c by b 0 -50\npoint d cross a c\nwall a b\nwall b c\n"
-            "wall c d\nwall d a\npoint e by a 30 0\npoint f cross e d"
+            "hand 2\npoint a at -999 999\npoint b by a 60 0\npoint c by b 0 -50\npoint d cross a c\nwall a b\n"
+            "wall b c\nwall c d\nwall d a\npoint e by a 30 0\npoint f cross e d"
         )
         book = Book("among latest\ncorner 4\nwall 4\nlevel 2")
         for wish in (("on", "e", "a", "b"), ("on", "f", "c", "d"), ("upright", "e", "f"), ("level", "c", "f"),

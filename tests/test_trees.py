@@ -121,6 +121,24 @@ class Fine(Trees):
         for question in (("x", "a", "0", -2), ("x", "a!", "0", -2), ("y", "b", "a", 0), ("y", "b!", "a", 2)):
             self.check_leaf(True, ((question, True),), FINE)
 
+    def test_answers_that_cannot_be_though_they_tell_the_wish(self):
+        told = (("y", "a", "b", 0), True), (("y", "b", "a", 0), True)
+        self.check_leaf(True, told, FINE)
+        contrary = (("x", "b", "a", -1), True), (("x", "b", "a", -1), False)
+        self.check_leaf(False, told + contrary, FINE)
+        self.check_leaf(False, contrary + told, FINE)
+        self.check_leaf(False, told + ((("x", "a!", "0", -4), True),), FINE)
+        self.check_leaf(False, told + ((("x", "b", "b!", -1), True),), FINE)
+
+    def test_the_least_one_of_several_answers_counts(self):
+        # b less a is at most 9 in y, at most 3, at most 5 ..: the second one is what tells that b is level with a.
+        for numbers in itertools.permutations((9, 3, 5, 4)):
+            answers = tuple((MORE[:3] + (number,), True) for number in numbers)
+            self.check_leaf(True, answers + ((LESS, True),), FINE, plan=FOUR, wish=NEAR)
+        for numbers in itertools.permutations((9, 4, 5, 7)):
+            answers = tuple((MORE[:3] + (number,), True) for number in numbers)
+            self.check_leaf(False, answers + ((LESS, True),), FINE, plan=FOUR, wish=NEAR)
+
 
 class Rings(Trees):
     """Leaves behind answers by which nothing can be."""
@@ -367,6 +385,17 @@ class Needless(Trees):
         self.check(True, ("ask",) + MORE + (TREE[5], ("ask",) + MORE + (no, FINE)))
         self.check(False, ("ask",) + MORE + (("ask",) + MORE + (TREE[5], FINE), FINE))
         self.check(False, ("ask",) + MORE + (("ask",) + MORE + (TREE[5], TREE[5]), FINE))
+
+    def test_what_is_asked_behind_both_answers(self):
+        leaf = ("never", "x", (("a", "0", -5), ("0", "a!", 3), ("a!", "a", 0)))
+        part = ("ask", "x", "a", "0", -5, leaf, FINE)
+        both = ("ask", "y", "a", "0", 0, part, part)
+        self.check(True, both, plan=THREE, wish=SAME_HEIGHT)
+        self.check(True, ("ask", "x", "b", "a", 60, both, both), plan=THREE, wish=SAME_HEIGHT)
+        # An answer counts only for what stands behind it.
+        self.check(False, ("ask", "y", "a", "0", 0, part, leaf), plan=THREE, wish=SAME_HEIGHT)
+        self.check(False, ("ask", "y", "a", "0", 0, leaf, part), plan=THREE, wish=SAME_HEIGHT)
+        self.check(False, part[:6] + (leaf,), plan=THREE, wish=SAME_HEIGHT)
 
     def test_terms_of_later_points_and_of_hands(self):
         terms = ["0", "a", "a!", "b", "b!"]
