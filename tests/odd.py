@@ -57,6 +57,25 @@ def with_each_part_changed(value, path=()):
             yield path, bool(value)
 
 
+def with_each_part_moved(value):
+    """The value with each of its numbers one more or one less, each of its strings another one, parts out or twice."""
+    if isinstance(value, tuple):
+        for at, part in enumerate(value):
+            yield value[:at] + value[at + 1:]
+            yield value[:at] + (part,) + value[at:]
+            if at:
+                yield value[:at - 1] + (part, value[at - 1]) + value[at + 1:]
+            for changed in with_each_part_moved(part):
+                yield value[:at] + (changed,) + value[at + 1:]
+    elif isinstance(value, str):
+        for other in ("a", "b", "c!", "0", "x", "y", "fine", "never", "free", "level", "can", "sure", "fails"):
+            if other != value:
+                yield other
+    else:
+        yield value - 1
+        yield value + 1
+
+
 class RefusingTestCase(unittest.TestCase):
     """Tests that a call raises just the error that is named, with just the value that is told."""
 

@@ -1,10 +1,12 @@
-"""Sections 5 to 9 of the document once more, in other words than those of the program: plainly, and slowly.
+"""Sections 5 to 13 of the document once more, in other words than those of the program: plainly, and slowly.
 
 Plans are read from their texts again. Hands are tried out one by one; and for each question that a going by bounds
 asks, all bounds are gone over anew.
 """
 
 import itertools
+
+from wobblesnap.books import Book
 
 
 class Stopped(Exception):
@@ -328,7 +330,10 @@ def bound_by(question, answer):
 
 
 def go_by_bounds(book, plan, answers, wish):
-    """(bounds by axis, what it stopped by, None or whether the wish is yes), by answers (question, answer)."""
+    """(bounds by axis, what it stopped by, None or whether the wish is yes), by answers (question, answer).
+
+    In place of a wish there may be another book: whether it draws all points alike.
+    """
     told = Told()
     for question, answer in answers:
         told.put(question[0], *bound_by(question, answer))
@@ -352,13 +357,46 @@ def go_by_bounds(book, plan, answers, wish):
             compare_click(told, book, name, elders, walls)
             told.look_for_rings()
             elders.append(name)
+        if isinstance(wish, Book):
+            return told.bounds, None, compare_books(told, wish, plan)
         return told.bounds, None, ask_wish(told.ask, wish)
     except Stopped as stopped:
         return told.bounds, stopped, None
 
 
+class Parted(Exception):
+    """Another book takes something else."""
+
+
+class Fixed(Told):
+    """Answers by bounds to which nothing is put: what is put has to be told by them."""
+
+    def __init__(self, bounds):
+        super().__init__()
+        self.bounds = bounds
+
+    def put(self, axis, one, other, most):
+        if not self.ask(axis, one, other, most):
+            raise Parted()
+
+
+def compare_books(told, other, plan):
+    """Whether another book draws all points alike, by all bounds of a going."""
+    elders, walls = [], []
+    try:
+        for line in lines_of(plan):
+            if line[0] == "wall":
+                walls.append(line[1:])
+            else:
+                compare_click(Fixed(told.bounds), other, line[1], elders, walls)
+                elders.append(line[1])
+        return True
+    except Parted:
+        return False
+
+
 def is_right(book, plan, wish, tree, answers=()):
-    """Whether a small tree is right."""
+    """Whether a small tree is right; wish may be another book, as in go_by_bounds."""
     if tree == ("fine",):
         return go_by_bounds(book, plan, answers, wish)[2] is True
     if type(tree) is not tuple or not tree:

@@ -5,12 +5,15 @@ import importlib
 import inspect
 import unittest
 
+from wobblesnap.beside import shows_alike
 from wobblesnap.books import Book
 from wobblesnap.bounds import least_way, settled, shows_settled
+from wobblesnap.coming import safest, shows_outcomes, shows_safest, shows_spread, spread
 from wobblesnap.drawing import drawn, is_steady, taken
 from wobblesnap.errors import DrawError
 from wobblesnap.judging import shows_sure, sure
 from wobblesnap.plans import Plan
+from wobblesnap.telling import could, shows_could
 from wobblesnap.wishes import kept
 
 FUNCTIONS = {
@@ -31,6 +34,22 @@ FUNCTIONS = {
         "cases": ["book", "plan"],
         "sure": ["book", "plan", "wish"],
         "shows_sure": ["book", "plan", "wish", "value"],
+    },
+    "wobblesnap.coming": {
+        "outcomes": ["book", "plan"],
+        "shows_outcomes": ["book", "plan", "value"],
+        "spread": ["book", "plan", "axis", "one", "other"],
+        "shows_spread": ["book", "plan", "axis", "one", "other", "value"],
+        "safest": ["book", "plan", "wishes"],
+        "shows_safest": ["book", "plan", "wishes", "value"],
+    },
+    "wobblesnap.beside": {
+        "alike": ["one", "other", "plan"],
+        "shows_alike": ["one", "other", "plan", "value"],
+    },
+    "wobblesnap.telling": {
+        "could": ["book", "plan", "drawing"],
+        "shows_could": ["book", "plan", "drawing", "value"],
     },
 }
 CLASSES = {
@@ -122,5 +141,30 @@ class Arguments(unittest.TestCase):
                 with self.assertRaises(DrawError):
                     call()
             self.assertNotIn(value, plan)
+        self.assertEqual(odd, before)
+        self.assertEqual((book.text, plan.text), texts)
+
+    def test_they_are_not_changed_by_what_is_told_of_all_wobbles(self):
+        odd = [["a", {"b": [1, ("c", [True])]}], {"can": [((0, 0), (9, 0))]}, [0, [("fine",)], 0, ((0, 0),)], {0: {}}]
+        before = copy.deepcopy(odd)
+        book, plan = Book("among eldest\nlevel 3"), Plan("hand 3\npoint a at 0 0\npoint b by a 9 0")
+        texts = book.text, plan.text
+        drawing = ((0, 0), (9, 0))
+        for value in odd:
+            for wrapped in (value, (value,), (value, value), (0, value, 0, value), (3, 9, value, value, value)):
+                for found in (
+                    shows_outcomes(book, plan, wrapped), shows_spread(book, plan, "x", "b", "a", wrapped),
+                    shows_safest(book, plan, (("level", "a", "b"),), wrapped), shows_alike(book, book, plan, wrapped),
+                    shows_could(book, plan, drawing, wrapped), shows_could(book, plan, drawing, ("can", value, value)),
+                    shows_alike(book, book, plan, ("alike", wrapped)),
+                ):
+                    self.assertIs(found, False)
+            for call in (
+                lambda: spread(book, plan, value, "a", "b"), lambda: spread(book, plan, "x", value, "b"),
+                lambda: safest(book, plan, value), lambda: safest(book, plan, (value,)),
+                lambda: could(book, plan, value), lambda: could(book, plan, (value, value)),
+            ):
+                with self.assertRaises(DrawError):
+                    call()
         self.assertEqual(odd, before)
         self.assertEqual((book.text, plan.text), texts)

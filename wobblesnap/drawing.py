@@ -24,6 +24,11 @@ class Numbers:
         """Let the one term be the other one and this number."""
         self.worth[axis][one] = self.worth[axis][other] + number
 
+    def put_place(self, term, place):
+        """Let the point, or the hand, of this term be at a place."""
+        for axis, number in zip(AXES, place):
+            self.put_alike(axis, term, ZERO, number)
+
     def less(self, axis, one, other):
         """The one term less the other one."""
         return self.worth[axis][one] - self.worth[axis][other]
@@ -70,10 +75,14 @@ def draw(book, plan, hands):
     numbers = Numbers()
     ways = []
     for at, (name, _, _, walls) in enumerate(plan.clicks):
-        for axis, number in zip(AXES, hands[at]):
-            numbers.put_alike(axis, hand_of(name), ZERO, number)
-        ways.append(click_through(numbers, book, name, plan.points[:at], walls))
+        ways.append(click_at(numbers, book, name, hands[at], plan.points[:at], walls))
     return numbers, ways
+
+
+def click_at(numbers, book, name, hand, points, walls):
+    """(way for x, way for y): how a point comes that is clicked at this place, below these points and walls."""
+    numbers.put_place(hand_of(name), hand)
+    return click_through(numbers, book, name, points, walls)
 
 
 def is_near_aim(numbers, name, aimed):

@@ -28,6 +28,17 @@ def is_axis(value):
     return isinstance(value, str) and value in AXES
 
 
+def is_just(value, told):
+    """Whether any value is just these integers and strings, or tuples of such."""
+    if isinstance(told, tuple):
+        if not isinstance(value, tuple) or len(value) != len(told):
+            return False
+        return all([is_just(part, known) for part, known in zip(value, told)])
+    if isinstance(told, str):
+        return isinstance(value, str) and value == told
+    return is_integer(value) and value == told
+
+
 def consists_of(text, signs):
     """Whether each sign of the text is one of these signs."""
     return all([sign in signs for sign in text])

@@ -20,18 +20,7 @@ def cases(book, plan):
 def sure(book, plan, wish):
     """("sure", tree) if all steady hands keep the wish, otherwise ("fails", hands) with some that do not."""
     check_wish(plan.points, wish)
-    leaves = []
-    pending = all_cases(book, plan)[::-1]
-    while len(pending) > 0:
-        going, answers = pending.pop()
-        answer = answer_of(going, wish)
-        if answer is None:
-            pending.extend(both_answers(going, answers))
-        elif answer:
-            leaves.append(answers)
-        else:
-            return "fails", some_hands(plan, going)
-    return "sure", tree_of(leaves)
+    return judged(plan, all_cases(book, plan), wish)
 
 
 def shows_sure(book, plan, wish, value):
@@ -42,8 +31,46 @@ def shows_sure(book, plan, wish, value):
         return False
     kind, told = value
     if kind == "fails":
-        return is_hands(plan, told) and is_steady(book, plan, told) and not kept(book, plan, wish, told)
-    return kind == "sure" and is_right_tree(book, plan, told, lambda going: answer_of(going, wish) is True)
+        return are_failing(book, plan, wish, told)
+    return kind == "sure" and is_sure_tree(book, plan, wish, told)
+
+
+def judged(plan, found, wish):
+    """What sure tells of a wish, all cases being found."""
+    leaves, failing = leaves_of(found, lambda going: answer_of(going, wish))
+    if failing is not None:
+        return "fails", some_hands(plan, failing)
+    return "sure", tree_of(leaves)
+
+
+def leaves_of(found, answer):
+    """(leaves, None), the answers that lead to each leaf of a tree, if by all cases the answer is yes.
+
+    Otherwise (None, going), by all hands of which it is no. The answer of a going is None if it asked what it does not
+    know.
+    """
+    leaves = []
+    pending = found[::-1]
+    while len(pending) > 0:
+        going, answers = pending.pop()
+        told = answer(going)
+        if told is None:
+            pending.extend(both_answers(going, answers))
+        elif told:
+            leaves.append(answers)
+        else:
+            return None, going
+    return leaves, None
+
+
+def are_failing(book, plan, wish, value):
+    """Whether any value is steady hands that do not keep the wish."""
+    return is_hands(plan, value) and is_steady(book, plan, value) and not kept(book, plan, wish, value)
+
+
+def is_sure_tree(book, plan, wish, value):
+    """Whether any value is a right tree for the wish."""
+    return is_right_tree(book, plan, value, lambda going: answer_of(going, wish) is True)
 
 
 def all_cases(book, plan):

@@ -1,10 +1,11 @@
 """Wishes: what a drawing should be like."""
 
 from wobblesnap.drawing import check_hands, draw
-from wobblesnap.errors import BadWish
+from wobblesnap.errors import BadWish, BadWishes
 from wobblesnap.forms import is_integer
 from wobblesnap.rules import all_yes, lies_on, within
 
+MOST_WISHES = 3
 # How many names each wish tells, and from where to where its numbers go.
 NAMES = {"same": 2, "level": 2, "upright": 2, "x": 2, "y": 2, "on": 3, "apart": 2}
 RANGES = {
@@ -26,6 +27,14 @@ def check_wish(names, value):
     """Refuse any value that is no wish of points of these names."""
     if not is_wish(names, value):
         raise BadWish(value)
+
+
+def check_wishes(names, value):
+    """Refuse any value that is no tuple of one to three wishes of points of these names."""
+    if not isinstance(value, tuple) or not 1 <= len(value) <= MOST_WISHES:
+        raise BadWishes(value)
+    if not all([is_wish(names, wish) for wish in value]):
+        raise BadWishes(value)
 
 
 def is_wish(names, value):
