@@ -2,7 +2,10 @@
 
 import unittest
 
+from wobblesnap.boards import Board
 from wobblesnap.books import Book
+from wobblesnap.desk import Desk
+from wobblesnap.fences import Bay
 from wobblesnap.plans import Plan
 
 
@@ -22,6 +25,8 @@ def odd_values():
         [], [0], ["a", "b", 1], [("a", "b", 1)], [[]], [None],
         {}, {"a": 1}, {"a": {"b": [1]}}, {0: ("a", "b", 1)},
         Book("among eldest\nlevel 3"), Plan("hand 3\npoint a at 0 0"), (Plan("hand 0\npoint b at 1 1"), 1),
+        Bay("hand 1\nfrom a 0 0\npoint b by a 9 0\ngoes b"), Board(Book("among latest\ngrid 9")),
+        Desk("among latest\ngrid 9"), [Board(Book("among eldest\nlevel 3"))],
         nested("a", 30, lambda value: (value,)),
         nested(1, 30, lambda value: [value]),
         nested(None, 30, lambda value: {"a": value}),

@@ -141,7 +141,11 @@ def all_steady(book, plan):
 
 def is_kept(plan, wish, drawn):
     """Whether drawn points keep a wish, by what section 8 tells of their places."""
-    places = dict(zip(plan.points, drawn))
+    return is_kept_by(dict(zip(plan.points, drawn)), wish)
+
+
+def is_kept_by(places, wish):
+    """Whether points at these places, a dict, keep a wish."""
     kind = wish[0]
     one, other = places[wish[1]], places[wish[2]]
     if kind == "same":

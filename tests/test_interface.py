@@ -6,11 +6,15 @@ import inspect
 import unittest
 
 from wobblesnap.beside import shows_alike
+from wobblesnap.boards import Board
 from wobblesnap.books import Book
 from wobblesnap.bounds import least_way, settled, shows_settled
+from wobblesnap.choosing import cheapest, shows_cheapest
 from wobblesnap.coming import safest, shows_outcomes, shows_safest, shows_spread, spread
+from wobblesnap.desk import Desk
 from wobblesnap.drawing import drawn, is_steady, taken
 from wobblesnap.errors import DrawError
+from wobblesnap.fences import Bay, behind, fence, shows_fence
 from wobblesnap.judging import shows_sure, sure
 from wobblesnap.plans import Plan
 from wobblesnap.telling import could, shows_could
@@ -51,10 +55,33 @@ FUNCTIONS = {
         "could": ["book", "plan", "drawing"],
         "shows_could": ["book", "plan", "drawing", "value"],
     },
+    "wobblesnap.fences": {
+        "behind": ["book", "bay", "standing", "hands"],
+        "fence": ["book", "bay", "wish"],
+        "shows_fence": ["book", "bay", "wish", "value"],
+    },
+    "wobblesnap.choosing": {
+        "cheapest": ["book", "plan", "offers", "wishes"],
+        "shows_cheapest": ["book", "plan", "offers", "wishes", "value"],
+    },
+    "wobblesnap.boards": {
+        "read_board": ["book", "lines"],
+    },
 }
 CLASSES = {
     "wobblesnap.books": {"Book": ["text"]},
     "wobblesnap.plans": {"Plan": ["text"]},
+    "wobblesnap.fences": {"Bay": ["text"]},
+    "wobblesnap.boards": {"Board": ["book"]},
+    "wobblesnap.desk": {"Desk": ["text"]},
+}
+METHODS = {
+    Plan: {"by_hand": ["bound"]},
+    Board: {
+        "click": ["name", "x", "y"], "wall": ["one", "other"], "way": ["name"], "again": ["bound"], "undo": [], "redo": [],
+        "trial": [], "keep": [], "tried": ["look", "keep"], "copy": [],
+    },
+    Desk: {"say": ["line"]},
 }
 
 
@@ -104,8 +131,32 @@ class Names(unittest.TestCase):
         for name in ("__init__", "__eq__", "__len__", "__contains__", "__getitem__"):
             self.assertIn(name, vars(Book))
             self.assertIn(name, vars(Plan))
-        self.assertEqual(list(inspect.signature(Plan.by_hand).parameters), ["self", "bound"])
-        self.assertIn("by_hand", vars(Plan))
+            self.assertIn(name, vars(Board))
+        for name in ("__init__", "__eq__"):
+            self.assertIn(name, vars(Bay))
+        for found, methods in METHODS.items():
+            for name, parameters in methods.items():
+                with self.subTest(found=found, name=name):
+                    self.assertIn(name, vars(found))
+                    self.assertEqual(list(inspect.signature(vars(found)[name]).parameters), ["self"] + parameters)
+        keep = inspect.signature(Board.tried).parameters["keep"]
+        self.assertEqual((keep.kind, keep.default), (inspect.Parameter.KEYWORD_ONLY, False))
+
+    def test_the_attributes_of_a_bay_are_set_when_it_is_created(self):
+        text = "hand 1\nfrom a 0 0\npoint b by a 1 1\nwall a b\ngoes b"
+        found = vars(Bay(text))
+        self.assertEqual(
+            {name: found[name] for name in ("text", "hand", "starts", "points", "walls", "goes")},
+            {"text": text, "hand": 1, "starts": (("a", (0, 0)),), "points": ("b",), "walls": (("a", "b"),),
+             "goes": ("b",)},
+        )
+
+    def test_the_attributes_of_a_board_and_of_a_desk_are_set_when_they_are_created(self):
+        book = Book("among eldest\nlevel 3")
+        board = Board(book)
+        self.assertEqual([getattr(board, name) for name in ("book", "points", "walls", "done", "journal")],
+                         [book, (), (), 0, ()])
+        self.assertEqual(Desk(book.text).board, board)
 
 
 class Arguments(unittest.TestCase):
@@ -168,3 +219,24 @@ class Arguments(unittest.TestCase):
                     call()
         self.assertEqual(odd, before)
         self.assertEqual((book.text, plan.text), texts)
+
+    def test_they_are_not_changed_by_what_is_told_of_fences_and_offers(self):
+        odd = [["a", {"b": [1, ("c", [True])]}], {"sure": [((0, 10),)]}, ["none", [("fine",)]], {0: {}}]
+        before = copy.deepcopy(odd)
+        book, plan = Book("among eldest\nlevel 3"), Plan("hand 3\npoint a at 0 0\npoint b by a 9 0")
+        bay = Bay("hand 1\nfrom a 0 0\npoint b by a 9 0\ngoes b")
+        wish, offers = ("level", "a", "b"), (("book", 2, "level 4", 1),)
+        for value in odd:
+            for wrapped in (value, (value,), ("sure", value), ("fails", (value,)), ("choice", 0, (), value, value)):
+                self.assertIs(shows_fence(book, bay, wish, wrapped), False)
+                self.assertIs(shows_cheapest(book, plan, offers, (wish,), wrapped), False)
+            for call in (
+                lambda: behind(book, bay, value, value), lambda: behind(book, bay, (), value),
+                lambda: behind(book, bay, (), (value,)), lambda: fence(book, bay, value), lambda: Bay(value),
+                lambda: cheapest(book, plan, value, (wish,)), lambda: cheapest(book, plan, (value,), (wish,)),
+                lambda: cheapest(book, plan, offers, value), lambda: cheapest(book, plan, offers, (value,)),
+                lambda: Desk(value), lambda: Desk(book.text).say(value),
+            ):
+                with self.assertRaises(DrawError):
+                    call()
+        self.assertEqual(odd, before)

@@ -13,21 +13,21 @@ class Beside:
     """
 
     def __init__(self, going):
-        self.going = going
+        self.told = going
         self.there = True
 
     def asks(self, axis, one, other, most):
         """Whether the bounds tell that the one term less the other one is at most so much."""
-        return self.going.asks(axis, one, other, most)
+        return self.told.asks(axis, one, other, most)
 
     def multiple(self, axis, term, step):
         """The number of the multiple of which the bounds tell that it is the nearest one."""
-        return self.going.multiple(axis, term, step)
+        return self.told.multiple(axis, term, step)
 
     def put_alike(self, axis, one, other, number):
         """Look whether the bounds tell that the one term is the other one and this number."""
         if self.there:
-            self.there = all_yes(self.going, [(axis, one, other, number), (axis, other, one, -number)])
+            self.there = all_yes(self.told, [(axis, one, other, number), (axis, other, one, -number)])
 
 
 def alike(one, other, plan):

@@ -2,8 +2,8 @@
 
 from wobblesnap.drawing import draw, is_hands, is_steady, taken
 from wobblesnap.errors import NoAxis, NoPoint, TooMany
-from wobblesnap.forms import is_axis, is_integer, is_just
-from wobblesnap.judging import all_cases, are_failing, is_sure_tree, judged, some_hands
+from wobblesnap.forms import is_axis, is_just
+from wobblesnap.judging import all_cases, are_sure_trees, is_failing_one, is_sure_tree, some_hands, trees_or_failing
 from wobblesnap.plans import GREATEST_BOUND
 from wobblesnap.trees import tree_of
 from wobblesnap.wishes import check_wishes
@@ -112,18 +112,6 @@ def is_safe(book, plan, wishes):
         return False
 
 
-def trees_or_failing(book, plan, wishes):
-    """(trees, None, None) if all wishes are sure, otherwise (None, number, hands) of the first one that fails."""
-    found = all_cases(book, plan)
-    trees = []
-    for number, wish in enumerate(wishes):
-        kind, told = judged(plan, found, wish)
-        if kind == "fails":
-            return None, number, told
-        trees.append(told)
-    return tuple(trees), None, None
-
-
 def shows_safest(book, plan, wishes, value):
     """Whether any value is a right answer of safest."""
     told = safest(book, plan, wishes)
@@ -135,17 +123,3 @@ def shows_safest(book, plan, wishes, value):
     if bound < 0 and not is_just(value[1], ()):
         return False
     return bound == GREATEST_BOUND or is_failing_one(book, plan.by_hand(bound + 1), wishes, value[2], value[3])
-
-
-def are_sure_trees(book, plan, wishes, value):
-    """Whether any value is a tuple of a right tree for each wish."""
-    if not isinstance(value, tuple) or len(value) != len(wishes):
-        return False
-    return all([is_sure_tree(book, plan, wish, tree) for wish, tree in zip(wishes, value)])
-
-
-def is_failing_one(book, plan, wishes, number, hands):
-    """Whether any two values are the number of a wish, and steady hands that do not keep it."""
-    if not is_integer(number) or not 0 <= number < len(wishes):
-        return False
-    return are_failing(book, plan, wishes[number], hands)

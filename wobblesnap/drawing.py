@@ -2,7 +2,7 @@
 
 from wobblesnap.bounds import ZERO
 from wobblesnap.errors import BadHands
-from wobblesnap.forms import AXES, is_place
+from wobblesnap.forms import AXES, are_places
 from wobblesnap.rules import aimed_at, click_through, hand_of
 
 
@@ -37,6 +37,12 @@ class Numbers:
         """The place at which the point, or the hand, of this term is."""
         return self.worth["x"][term], self.worth["y"][term]
 
+    def branched(self):
+        """An independent copy."""
+        twin = Numbers()
+        twin.worth = {axis: dict(self.worth[axis]) for axis in AXES}
+        return twin
+
 
 def drawn(book, plan, hands):
     """The tuple of the places of the drawn points."""
@@ -67,7 +73,7 @@ def check_hands(plan, value):
 
 def is_hands(plan, value):
     """Whether any value is hands of this plan."""
-    return isinstance(value, tuple) and len(value) == len(plan) and all([is_place(place) for place in value])
+    return are_places(value, len(plan))
 
 
 def draw(book, plan, hands):

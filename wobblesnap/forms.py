@@ -4,6 +4,7 @@ LETTERS = "abcdefghijklmnopqrstuvwxyz"
 DIGITS = "0123456789"
 LONGEST_NAME = 8
 LONGEST_NUMBER = 9
+MOST_FIGURES = 900
 AXES = ("x", "y")
 
 
@@ -21,6 +22,11 @@ def is_name(value):
 def is_place(value):
     """Whether any value is a place."""
     return isinstance(value, tuple) and len(value) == 2 and is_integer(value[0]) and is_integer(value[1])
+
+
+def are_places(value, many):
+    """Whether any value is a tuple of so many places."""
+    return isinstance(value, tuple) and len(value) == many and all([is_place(place) for place in value])
 
 
 def is_axis(value):
@@ -51,6 +57,17 @@ def number_in(word, low, high):
         return None
     number = int(word)
     if str(number) != word or not low <= number <= high:
+        return None
+    return number
+
+
+def integer_in(word):
+    """The integer that a word of a text is as Python writes it, otherwise None."""
+    figures = word.removeprefix("-")
+    if not 1 <= len(figures) <= MOST_FIGURES or not consists_of(figures, DIGITS):
+        return None
+    number = int(word)
+    if str(number) != word:
         return None
     return number
 

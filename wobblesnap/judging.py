@@ -3,7 +3,7 @@
 from wobblesnap.bounds import ZERO
 from wobblesnap.drawing import is_hands, is_steady
 from wobblesnap.errors import TooMany
-from wobblesnap.forms import AXES
+from wobblesnap.forms import AXES, is_integer
 from wobblesnap.going import Going, goes_on
 from wobblesnap.rules import hand_of
 from wobblesnap.trees import is_right_tree, tree_of
@@ -71,6 +71,32 @@ def are_failing(book, plan, wish, value):
 def is_sure_tree(book, plan, wish, value):
     """Whether any value is a right tree for the wish."""
     return is_right_tree(book, plan, value, lambda going: answer_of(going, wish) is True)
+
+
+def trees_or_failing(book, plan, wishes):
+    """(trees, None, None) if all wishes are sure, otherwise (None, number, hands) of the first one that fails."""
+    found = all_cases(book, plan)
+    trees = []
+    for number, wish in enumerate(wishes):
+        kind, told = judged(plan, found, wish)
+        if kind == "fails":
+            return None, number, told
+        trees.append(told)
+    return tuple(trees), None, None
+
+
+def are_sure_trees(book, plan, wishes, value):
+    """Whether any value is a tuple of a right tree for each wish."""
+    if not isinstance(value, tuple) or len(value) != len(wishes):
+        return False
+    return all([is_sure_tree(book, plan, wish, tree) for wish, tree in zip(wishes, value)])
+
+
+def is_failing_one(book, plan, wishes, number, hands):
+    """Whether any two values are the number of a wish, and steady hands that do not keep it."""
+    if not is_integer(number) or not 0 <= number < len(wishes):
+        return False
+    return are_failing(book, plan, wishes[number], hands)
 
 
 def all_cases(book, plan):

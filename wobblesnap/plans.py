@@ -18,7 +18,7 @@ class Plan:
         if not isinstance(text, str):
             raise BadPlan(0)
         lines = text.split("\n")
-        hand = read_hand(lines[0])
+        hand = read_hand(lines[0], GREATEST_BOUND)
         if hand is None:
             raise BadPlan(1)
         clicks, walls = read_clicks(lines[1:], 2, hand)
@@ -33,8 +33,7 @@ class Plan:
 
     def by_hand(self, bound):
         """The plan with this bound in its first line."""
-        if not is_integer(bound) or not 0 <= bound <= GREATEST_BOUND:
-            raise BadNumber(bound)
+        check_bound(bound)
         return Plan("\n".join([f"hand {bound}"] + self.text.split("\n")[1:]))
 
     def __eq__(self, other):
@@ -56,12 +55,18 @@ class Plan:
         raise TypeError("a plan cannot be gone over")
 
 
-def read_hand(line):
-    """The number of the first line, or None if it is no such line."""
+def check_bound(value):
+    """Refuse any value that is no integer from 0 to 99."""
+    if not is_integer(value) or not 0 <= value <= GREATEST_BOUND:
+        raise BadNumber(value)
+
+
+def read_hand(line, most):
+    """The number, up to this one, of the first line, or None if it is no such line."""
     words = line.split(" ")
     if len(words) != 2 or words[0] != "hand":
         return None
-    return number_in(words[1], 0, GREATEST_BOUND)
+    return number_in(words[1], 0, most)
 
 
 def read_clicks(lines, first, hand):

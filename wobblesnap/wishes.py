@@ -2,7 +2,7 @@
 
 from wobblesnap.drawing import check_hands, draw
 from wobblesnap.errors import BadWish, BadWishes
-from wobblesnap.forms import is_integer
+from wobblesnap.forms import is_integer, is_name
 from wobblesnap.rules import all_yes, lies_on, within
 
 MOST_WISHES = 3
@@ -31,10 +31,24 @@ def check_wish(names, value):
 
 def check_wishes(names, value):
     """Refuse any value that is no tuple of one to three wishes of points of these names."""
-    if not isinstance(value, tuple) or not 1 <= len(value) <= MOST_WISHES:
+    if not are_some(value) or not all([is_wish(names, wish) for wish in value]):
         raise BadWishes(value)
-    if not all([is_wish(names, wish) for wish in value]):
+
+
+def check_free_wishes(value):
+    """Refuse any value that is no tuple of one to three wishes, whatever points there are."""
+    if not are_some(value) or not all([is_free_wish(wish) for wish in value]):
         raise BadWishes(value)
+
+
+def are_some(value):
+    """Whether any value is a tuple of one to three parts."""
+    return isinstance(value, tuple) and 1 <= len(value) <= MOST_WISHES
+
+
+def is_free_wish(value):
+    """Whether any value is a wish, any names being points."""
+    return isinstance(value, tuple) and is_wish([part for part in value if is_name(part)], value)
 
 
 def is_wish(names, value):
