@@ -123,7 +123,8 @@ class WrongTexts(RefusingTestCase):
         for line in (
             "from a 0 1", "from a 1 0", "from a -1 0", "from a 0 -0", "from a 00 0", "from a 0", "from a", "from",
             "from a 0 0 0", "from A 0 0", "from abcdefghi 0 0", "from  0 0", "from a  0", "from a 0 0 ", " from a 0 0",
-            "from a 0 x", "From a 0 0", "point a at 0 0", "wall a b", "goes a", "", "from a +0 0", "from a 0 0 within 1",
+            "from a 0 x", "From a 0 0", "point a at 0 0", "wall a b", "goes a", "", "from a +0 0",
+            "from a 0 0 within 1",
         ):
             self.bad(2, "hand 1\n" + line + rest)
             self.bad(2, "hand 1\n" + line)
@@ -143,7 +144,8 @@ class WrongTexts(RefusingTestCase):
             "point c at 1 1", "point c at 0 0 within 1", "point c by d 1 1", "point c by c 1 1", "point a by b 1 1",
             "point b by a 1 1", "point c by a 1", "point c by a 1 1 within 3", "point c by a 1 1 within 99",
             "point c by a 1 1 within", "point c by a 1 1 within 01", "point c by a 1000 1", "point c by a 1 1 1",
-            "point c cross a", "point c cross a d", "point c cross a b 1", "point C by a 1 1", "point c cross a b within 3",
+            "point c cross a", "point c cross a d", "point c cross a b 1", "point C by a 1 1",
+            "point c cross a b within 3",
             "point c  by a 1 1", "point c by a 1 1 ", "points c by a 1 1", "point c by a -0 1", "point c to a 1 1", "",
             "point c", "point",
         ):
@@ -166,10 +168,11 @@ class WrongTexts(RefusingTestCase):
         self.bad(3, "hand 1\nfrom a 0 0\nwall a a\npoint c by a 1 1\ngoes a")
 
     def test_goes(self):
-        for goes in ("goes", "goes a", "goes a b c", "goes a a", "goes c c", "goes a d", "goes d a", "goes a  b", "goes ",
+        for goes in ("goes", "goes a", "goes a b c", "goes a a", "goes a a b", "goes a b b", "goes c c", "goes a d",
+                     "goes d a", "goes a  b", "goes ",
                      "goes a b ", "Goes a b", "go a b", "goes a A", "goes a 0", "", "goes a b within 1"):
             self.bad(5, "hand 1\nfrom a 0 0\nfrom b 1 1\npoint c by a 1 1\n" + goes)
-        for goes in ("goes", "goes a b", "goes d", "goes ", "goes a ", "goes a c"):
+        for goes in ("goes", "goes a b", "goes a a", "goes d", "goes ", "goes a ", "goes a c"):
             self.bad(5, "hand 1\nfrom a 0 0\npoint b by a 1 1\npoint c by a 1 1\n" + goes)
         # There is an own point ahead of it, and nothing behind it.
         self.bad(3, "hand 1\nfrom a 0 0\ngoes a")

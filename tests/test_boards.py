@@ -386,10 +386,12 @@ class Journals(RefusingTestCase):
         good = ("click a 0 0", "click b 50 5", "wall a b")
         for value in odd_values() + [
             "click", "click c", "click c 0", "click c 0 0 0", "click c 0 0 ", " click c 0 0", "click  c 0 0",
-            "click c 00 0", "click c +1 0", "click c -0 0", "click c 0 1.0", "click c 0 x", "click c 0 1_0", "click C 0 0",
+            "click c 00 0", "click c +1 0", "click c -0 0", "click c 0 1.0", "click c 0 x", "click c 0 1_0",
+            "click C 0 0",
             "click c0 0 0", "click abcdefghi 0 0", "click a 0 0", "click c 1000 0", "click c 0 -1000", "click c 0 0\n",
             "click c 9999999999 0", "Click c 0 0", "wall", "wall a", "wall a a", "wall a c", "wall c a", "wall a b c",
-            "wall a b ", "wall  a b", "wall A b", "undo", "redo", "point c at 0 0", "hand 3", "", " ", "\n", ("click c 0 0",),
+            "wall a b ", "wall  a b", "wall A b", "undo", "redo", "point c at 0 0", "hand 3", "", " ", "\n",
+            ("click c 0 0",),
             ["click c 0 0"], None, "click c 0", "click c  0 0", "click c " + "9" * 3000 + " 0", "walls a b",
         ]:
             for at in range(3):

@@ -264,7 +264,8 @@ def deal_choosing(dealt):
     while len(offers) < dealt.randint(1, 4):
         if dealt.random() < 0.4:
             number = dealt.randint(1, len(book.text.split("\n")))
-            text = dealt.choice(("among latest", "among eldest", "level 9", "corner 9", "straight 9", "", "wall 2\ngrid 3"))
+            text = dealt.choice(("among latest", "among eldest", "level 9", "corner 9", "straight 9", "",
+                                 "wall 2\ngrid 3"))
             offers.add(("book", number, text, dealt.randint(1, 3)))
         else:
             number = dealt.randint(1, len(lines))
@@ -327,7 +328,8 @@ class Wrong(RefusingTestCase):
     def test_wishes(self):
         wish = ("level", "a", "b")
         for value in odd_values() + [
-            (wish,) * 4, [wish], wish, ((wish,),), (wish, None), (list(wish),), (("level", "a", "A"),), (("same", "a"),),
+            (wish,) * 4, [wish], wish, ((wish,),), (wish, None), (list(wish),), (("level", "a", "A"),),
+            (("same", "a"),),
             (("x", "a", "b", 0, True),), (("level", "a", "a"),), {0: wish}, (("level", "a", "abcdefghi"),), ((), wish),
             (("apart", "a", "b", 0),), (("on", "a", "b", "a"),), (("level", "a", ""),), (("level", "a!", "b"),),
             (("level", "zz", "zz"),), (("x", "q", "r", 0),), (("x", "q", "r", 0, 100000),),
@@ -440,7 +442,8 @@ class Shown(Choosing):
         for changed in (
             (kind, price, choice, trees), (kind, price, choice, reasons, trees), (kind, price, choice, (), reasons),
             (kind, 5, (WIDER,), trees, reasons), (kind, price + 1, choice, trees, reasons), ("none", reasons),
-            (kind, price, choice, trees, ()), (kind, price, list(choice), trees, reasons), (kind, price, (), trees, reasons),
+            (kind, price, choice, trees, ()), (kind, price, list(choice), trees, reasons),
+            (kind, price, (), trees, reasons),
             (kind, price, choice, trees[:1], reasons), (kind, price, choice, trees + trees, reasons),
             (kind, price, (choice[0][:3] + (True,),), trees, reasons), ("none", ()), (kind, 0, (), trees, ()),
         ):

@@ -419,6 +419,25 @@ class Safest(RefusingTestCase):
                         (99, FINE), (-1, (), 0, ((0, 0), (60, 0)))):
             self.assertIs(shows_safest(LEVEL, still, wishes, changed), False)
 
+    def test_trees_are_by_the_bound_and_hands_by_the_next_one(self):
+        book = Book("among eldest\nlevel 1")
+        plan = Plan("hand 9\npoint a at 0 0\npoint b by a 60 0")
+        wishes = (("apart", "a", "b", 60),)
+        bound, trees, number, hands = self.check(book, plan, wishes)
+        self.assertEqual((bound, trees, number), (0, (FINE,), 0))
+        ring = (("b!", "b", 0), ("b", "b!", -1))
+        for tree in (("never", "x", ring), ("ask", "x", "a", "0", -1, FINE, FINE), ("fine", 0), (), ("never", "x", ())):
+            self.assertIs(shows_safest(book, plan, wishes, (bound, (tree,), number, hands)), False)
+        self.assertIs(shows_safest(book, plan, wishes, (bound, (), number, hands)), False)
+        for x, right in ((57, False), (58, False), (59, True), (60, False), (61, False)):
+            value = (bound, trees, number, ((0, 0), (x, 0)))
+            self.assertIs(shows_safest(book, plan, wishes, value), right)
+        # Trees by a greater bound need not be right by this one; and hands of a greater one are not steady.
+        wishes = (("level", "a", "b"),)
+        bound, trees, number, hands = self.check(LEVEL, PAIR, wishes)
+        for y, right in ((3, False), (4, True), (-4, True), (5, False), (-5, False)):
+            self.assertIs(shows_safest(LEVEL, PAIR, wishes, (bound, trees, number, ((0, 0), (60, y)))), right)
+
     def test_deep_values(self):
         wishes = (("level", "a", "b"),)
         value = safest(LEVEL, PAIR, wishes)

@@ -102,9 +102,11 @@ class Says(RefusingTestCase):
         desk = desk_of("click a 0 0", "click b 60 2")
         journal = desk.board.journal
         for line, error, value in (
-            ("click A 0 0", BadName, "A"), ("click abcdefghi 0 0", BadName, "abcdefghi"), ("click a! 1 1", BadName, "a!"),
+            ("click A 0 0", BadName, "A"), ("click abcdefghi 0 0", BadName, "abcdefghi"),
+            ("click a! 1 1", BadName, "a!"),
             ("click 0 0 0", BadName, "0"), ("click a 1000 0", Taken, "a"), ("click b 1 1", Taken, "b"),
-            ("wall a c", NoPoint, "c"), ("wall c a", NoPoint, "c"), ("wall a a", NoPoint, "a"), ("wall ! a", NoPoint, "!"),
+            ("wall a c", NoPoint, "c"), ("wall c a", NoPoint, "c"), ("wall a a", NoPoint, "a"),
+            ("wall ! a", NoPoint, "!"),
             ("where c", NoPoint, "c"), ("where A", NoPoint, "A"), ("where where", NoPoint, "where"),
             ("where 0", NoPoint, "0"), ("redo", NothingToRedo, None),
         ):
@@ -157,15 +159,23 @@ class BadLines(RefusingTestCase):
         journal = desk.board.journal
         for line in (
             "", " ", "\n", "hello", "click", "click c", "click c 1", "click c 1 1 1", "click  1 1", "click c  1 1",
-            "click c 1 1 ", " click c 1 1", "click c 1  1", "Click c 1 1", "click c 1 1\n", "\nclick c 1 1", "click c 1\n1",
-            "click c x 1", "click c 1 x", "click c 01 1", "click c +1 1", "click c -0 1", "click c 1.0 1", "click c 1_0 1",
-            "click c 1e2 1", "click c 0x1 1", "click c - 1", "click c --1 1", "click c 00 1", "click c 1,1 2", "click c 1 1,",
-            "wall", "wall a", "wall a b c", "wall a  b", "wall a b ", " wall a b", "Wall a b", "wall a b\n", "wall a\nb",
+            "click c 1 1 ", " click c 1 1", "click c 1  1", "Click c 1 1", "click c 1 1\n", "\nclick c 1 1",
+            "click c 1\n1",
+            "click c x 1", "click c 1 x", "click c 01 1", "click c +1 1", "click c -0 1", "click c 1.0 1",
+            "click c 1_0 1",
+            "click c 1e2 1", "click c 0x1 1", "click c - 1", "click c --1 1", "click c 00 1", "click c 1,1 2",
+            "click c 1 1,",
+            "wall", "wall a", "wall a b c", "wall a  b", "wall a b ", " wall a b", "Wall a b", "wall a b\n",
+            "wall a\nb",
             "undo ", " undo", "undo undo", "Undo", "undo\n", "undo 1", "undos", "redo ", " redo", "redo redo", "Redo",
-            "redo\n", "where", "where ", "where a b", "where  a", "where a ", " where a", "Where a", "where a\n", "where\na",
-            "safe", "safe level", "safe level a", "safe level a b c", "safe  level a b", "safe level a b ", "Safe level a b",
-            "safe levels a b", "safe x a b", "safe on a b", "safe apart a b", "safe Level a b", "safe level  a b", "safe a b",
-            "safe level a b\n", "safe level a\nb", "safe y a b 0 1", "safe  a b", "hand 3", "point a at 0 0", "keep", "trial",
+            "redo\n", "where", "where ", "where a b", "where  a", "where a ", " where a", "Where a", "where a\n",
+            "where\na",
+            "safe", "safe level", "safe level a", "safe level a b c", "safe  level a b", "safe level a b ",
+            "Safe level a b",
+            "safe levels a b", "safe x a b", "safe on a b", "safe apart a b", "safe Level a b", "safe level  a b",
+            "safe a b",
+            "safe level a b\n", "safe level a\nb", "safe y a b 0 1", "safe  a b", "hand 3", "point a at 0 0", "keep",
+            "trial",
             "click c 1 1\nclick d 1 1", "undo\nundo", TEXT,
         ):
             with self.subTest(line):

@@ -66,10 +66,12 @@ class Behind(RefusingTestCase):
         text = "hand 1\nfrom a 0 0\nfrom b 20 0\n{}point c by a 9 1\n{}point d by a 5 1\ngoes a b"
         book = Book("among eldest\nwall 1")
         for first, second, drawn in (("wall a b\n", "", ((9, 0), (5, 0))), ("", "wall a b\n", ((9, 1), (5, 0))),
-                                     ("", "wall a c\n", ((9, 1), (5, 1))), ("", "wall c b\nwall b a\n", ((9, 1), (5, 0)))):
+                                     ("", "wall a c\n", ((9, 1), (5, 1))),
+                                     ("", "wall c b\nwall b a\n", ((9, 1), (5, 0)))):
             self.assertEqual(behind(book, Bay(text.format(first, second)), (20, 0), ((9, 1), (5, 1)))[0], drawn)
         # Where b stands now, the wall is no level one.
-        self.assertEqual(behind(book, Bay(text.format("wall a b\n", "")), (20, 1), ((9, 1), (5, 1)))[0], ((9, 1), (5, 1)))
+        self.assertEqual(behind(book, Bay(text.format("wall a b\n", "")), (20, 1), ((9, 1), (5, 1)))[0],
+                         ((9, 1), (5, 1)))
 
     def test_errors_in_sequence(self):
         for value in odd_values() + [(0, 10, 0), (0,), [0, 10], (0, True), (False, 10), ("0", "10"), ((0, 10),), None]:
@@ -85,7 +87,8 @@ class Behind(RefusingTestCase):
         self.refuses(BadStanding, (0, 10), behind, NEAR, SHORT, (0, 10), ((9, 0),))
         self.refuses(BadStanding, (), behind, NEAR, BAY, (), ((10, 0), (10, 10)))
         good = ((10, 0), (10, 10))
-        for value in (good[:1], good + good[:1], list(good), ((10, 0), [10, 10]), ((10, 0), (10, True)), ((10, 0), (10,)),
+        for value in (good[:1], good + good[:1], list(good), ((10, 0), [10, 10]), ((10, 0), (10, True)),
+                      ((10, 0), (10,)),
                       nested(good, 50000, lambda value: (value, value))):
             self.refuses(BadHands, value, behind, NEAR, BAY, (0, 10), value)
         for _, value in with_each_part_changed(good):
@@ -194,8 +197,17 @@ class Fences(RefusingTestCase):
         self.assertIs(shows_fence(NEAR, BAY, wish, ("sure", far[:7] + far[8:])), False)
         self.assertIs(shows_fence(NEAR, BAY, wish, ("sure", far[:9] + far[8:])), False)
 
+    def test_each_of_the_standings_has_to_keep_the_wish(self):
+        # Behind each of these standings comes (0, 10); but there b is not above a.
+        for wish, right in ((("upright", "a", "b"), False), (("upright", "c", "d"), True)):
+            self.assertIs(shows_fence(NEAR, BAY, wish, ("sure", ((0, 10),))), True)
+            self.assertIs(shows_fence(NEAR, BAY, wish, ("sure", ((0, 10), (5, 10)))), right)
+            self.assertIs(is_right_standings(NEAR, BAY, wish, ((0, 10), (5, 10))), right)
+            self.assertIs(shows_fence(NEAR, BAY, wish, ("sure", ((-3, 10), (0, 10)))), right)
+
     def test_errors_in_sequence(self):
-        for value in odd_values() + [("level", "a", "e"), ("level", "a", "a"), ("x", "a", "b", 0, True), ["level", "a", "c"],
+        for value in odd_values() + [("level", "a", "e"), ("level", "a", "a"), ("x", "a", "b", 0, True),
+                                     ["level", "a", "c"],
                                      ("on", "a", "b"), ("level", "a!", "b")]:
             self.refuses(BadWish, value, fence, STRAIGHT, DRIFT, value)
             self.refuses(BadWish, value, shows_fence, STRAIGHT, DRIFT, value, value)
@@ -246,7 +258,8 @@ class Fences(RefusingTestCase):
         self.assertGreater(min(found.values()), 40)
 
     def test_wrong_forms(self):
-        for book, wish in ((NEAR, ("upright", "c", "d")), (CORNER, ("level", "a", "c")), (CORNER, ("upright", "a", "b"))):
+        for book, wish in ((NEAR, ("upright", "c", "d")), (CORNER, ("level", "a", "c")),
+                           (CORNER, ("upright", "a", "b"))):
             value = fence(book, BAY, wish)
             for changed in odd_values():
                 self.assertIs(shows_fence(book, BAY, wish, changed), False)
@@ -261,7 +274,8 @@ class Fences(RefusingTestCase):
         for rows in ((), (hands, hands), hands, (hands[:1],), (hands[::-1],), (((10, True), (10, 10)),),
                      (((10, 0), (10, 10)),), (((10, 2), (10, 10)),), (((10, 1), (12, 10)),), [hands], (list(hands),)):
             self.assertIs(shows_fence(CORNER, BAY, ("level", "a", "c"), ("fails", rows)), False)
-        for standings in ((), ((0, 10), (0, 10)), ((0, 11),), (0, 10), ((False, 10),), ((0, 10, 0),), ([0, 10],), ((),)):
+        for standings in ((), ((0, 10), (0, 10)), ((0, 11),), (0, 10), ((False, 10),), ((0, 10, 0),), ([0, 10],),
+                          ((),)):
             self.assertIs(shows_fence(NEAR, BAY, ("upright", "c", "d"), ("sure", standings)), False)
 
     def test_deep_values(self):
@@ -269,7 +283,8 @@ class Fences(RefusingTestCase):
             value = fence(book, BAY, wish)
             for wrap in (lambda value: (value,), lambda value: [value], lambda value: ("sure", value)):
                 deep = nested(value, 50000, wrap)
-                for changed in (deep, (deep, value[1]), (value[0], deep), (value[0], (deep,)), (value[0], ((deep, deep),))):
+                for changed in (deep, (deep, value[1]), (value[0], deep), (value[0], (deep,)),
+                                (value[0], ((deep, deep),))):
                     self.assertIs(shows_fence(book, BAY, wish, changed), False)
 
     def test_fewer_bays_never_fail(self):

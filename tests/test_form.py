@@ -1,6 +1,7 @@
-"""The form of the package's files, as far as a simple look can tell: sizes, signs, imports, and what they may not use."""
+"""The form of the package's files, as far as a simple look can tell: sizes, signs, names, what they may not use."""
 
 import ast
+import builtins
 import pathlib
 import unittest
 
@@ -97,3 +98,57 @@ class Form(unittest.TestCase):
                     if isinstance(node, (ast.FunctionDef, ast.ClassDef)):
                         told = [ast.unparse(row) for row in node.decorator_list]
                         self.assertTrue(all(row in DECORATORS or row.endswith(".setter") for row in told))
+
+    def test_no_name_is_bound_again_that_means_something_else(self):
+        for path, text in files():
+            tree = ast.parse(text, str(path))
+            taken = set(dir(builtins)) | {row.name for row in tree.body if isinstance(row, ast.ClassDef)}
+            for row in tree.body:
+                if isinstance(row, ast.ImportFrom):
+                    taken |= {alias.name for alias in row.names}
+            for node in ast.walk(tree):
+                if isinstance(node, (ast.FunctionDef, ast.Lambda)):
+                    names = {arg.arg for arg in node.args.args + node.args.kwonlyargs}
+                    names |= {name.id for name in ast.walk(node) if is_bound(name)}
+                    with self.subTest(path.name, line=node.lineno):
+                        self.assertEqual(names & taken, set())
+
+    def test_no_name_is_imported_in_vain(self):
+        for path, text in files():
+            nodes = nodes_of(path, text)
+            used = {node.id for node in nodes if isinstance(node, ast.Name)}
+            for node in nodes:
+                if isinstance(node, ast.ImportFrom):
+                    with self.subTest(path.name, line=node.lineno):
+                        self.assertEqual({alias.name for alias in node.names} - used, set())
+
+    def test_no_name_is_a_method_and_an_attribute(self):
+        methods, attributes = set(), set()
+        for path, text in files():
+            for node in nodes_of(path, text):
+                if isinstance(node, ast.ClassDef):
+                    methods |= {row.name for row in node.body if isinstance(row, ast.FunctionDef)}
+                if isinstance(node, ast.Attribute) and isinstance(node.ctx, ast.Store):
+                    attributes.add(node.attr)
+        self.assertEqual(methods & attributes, set())
+        self.assertIn("click", methods)
+        self.assertIn("journal", attributes)
+
+    def test_what_leaving_a_block_does(self):
+        # Rows of __exit__ are assignments of attributes and names, and an if over them.
+        found = 0
+        for path, text in files():
+            for node in nodes_of(path, text):
+                if isinstance(node, ast.FunctionDef) and node.name == "__exit__":
+                    found += 1
+                    inner = {type(part) for row in node.body for part in ast.walk(row)}
+                    self.assertLessEqual(inner, {
+                        ast.Assign, ast.If, ast.Attribute, ast.Name, ast.Load, ast.Store, ast.BoolOp, ast.Or, ast.And,
+                        ast.UnaryOp, ast.Not, ast.Compare, ast.Is, ast.IsNot, ast.Constant,
+                    })
+        self.assertEqual(found, 1)
+
+
+def is_bound(node):
+    """Whether a node is a name that is bound here."""
+    return isinstance(node, ast.Name) and isinstance(node.ctx, ast.Store)

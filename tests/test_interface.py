@@ -78,7 +78,8 @@ CLASSES = {
 METHODS = {
     Plan: {"by_hand": ["bound"]},
     Board: {
-        "click": ["name", "x", "y"], "wall": ["one", "other"], "way": ["name"], "again": ["bound"], "undo": [], "redo": [],
+        "click": ["name", "x", "y"], "wall": ["one", "other"], "way": ["name"], "again": ["bound"], "undo": [],
+        "redo": [],
         "trial": [], "keep": [], "tried": ["look", "keep"], "copy": [],
     },
     Desk: {"say": ["line"]},

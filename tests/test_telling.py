@@ -101,6 +101,21 @@ class Could(RefusingTestCase):
         # There are two ways to this place: by the level rule, and where the hand was.
         self.assertEqual(self.ranges("straight 0\ncorner 2", plan, start + ((0, 0),))[2], ((-2, 2), (-2, 2)))
 
+    def test_at_the_ends_of_walls(self):
+        # Just one place on the wall is so near to e that e's x is taken, or none is.
+        plan = "hand 6\npoint a at {0} 0 within 0\npoint b at {1} 0 within 0\nwall {2}\npoint e at {3} 30 within 0\n"
+        plan += "point c at {3} 0"
+        for ends, x, reach, told in (
+            ((0, 40), -1, 2, ((-3, 1), (-4, 4))), ((0, 40), -2, 2, ((-4, 0), (0, 0))),
+            ((0, 40), -2, 3, ((-5, 1), (-4, 4))), ((0, 40), -3, 3, ((-6, 0), (0, 0))),
+            ((40, 0), 41, 2, ((39, 43), (-4, 4))), ((40, 0), 42, 2, ((40, 44), (0, 0))),
+            ((40, 0), 42, 3, ((39, 45), (-4, 4))), ((40, 0), 43, 3, ((40, 46), (0, 0))),
+        ):
+            for wall in ("a b", "b a"):
+                drawing = ((ends[0], 0), (ends[1], 0), (x, 30), (x, 0))
+                found = self.ranges(f"wall 4\nstraight {reach}", plan.format(*ends, wall, x), drawing)
+                self.assertEqual(found[3], told)
+
     def test_grids(self):
         plan = "hand 30\npoint a at 0 0"
         self.assertEqual(self.ranges("grid 10", plan, ((20, -20),)), (((15, 24), (-25, -16)),))
