@@ -135,18 +135,81 @@ class Form(unittest.TestCase):
         self.assertIn("journal", attributes)
 
     def test_what_leaving_a_block_does(self):
-        # Rows of __exit__ are assignments of attributes and names, and an if over them.
-        found = 0
-        for path, text in files():
-            for node in nodes_of(path, text):
-                if isinstance(node, ast.FunctionDef) and node.name == "__exit__":
-                    found += 1
-                    inner = {type(part) for row in node.body for part in ast.walk(row)}
-                    self.assertLessEqual(inner, {
-                        ast.Assign, ast.If, ast.Attribute, ast.Name, ast.Load, ast.Store, ast.BoolOp, ast.Or, ast.And,
-                        ast.UnaryOp, ast.Not, ast.Compare, ast.Is, ast.IsNot, ast.Constant,
-                    })
-        self.assertEqual(found, 1)
+        found = [(path, node) for path, text in files() for node in nodes_of(path, text)
+                 if isinstance(node, ast.FunctionDef) and node.name == "__exit__"]
+        self.assertEqual([path.name for path, _ in found], ["boards.py"])
+        for path, node in found:
+            told = [arg.arg for arg in node.args.args]
+            self.assertEqual(told, ["self", "kind", "value", "trace"])
+            for row in node.body:
+                with self.subTest(path.name, line=row.lineno):
+                    self.assertTrue(is_row_of_leaving(row))
+
+    def test_what_may_not_be_done_where_a_block_is_left(self):
+        for text in ("if kind is not None or board.before.kept is None:\n    board.done = 0",
+                     "if not (self.kept is not None and kind is None):\n    self.rows = ()\nelse:\n    return False",
+                     "board = self.board", "board.deeds = board.before.deeds", "return", "pass"):
+            self.assertTrue(is_row_of_leaving(ast.parse(text).body[0]), text)
+        for text in ("if kind is not None or not board.before.kept:\n    board.done = 0",
+                     "if board.before.kept:\n    pass", "if kind:\n    pass", "if kind is KeyError:\n    pass",
+                     "if value is None:\n    pass", "if board.before.kept is True:\n    pass",
+                     "if board.done == 0:\n    pass", "if kind is None is None:\n    pass",
+                     "if None is kind:\n    pass", "if len(board) is None:\n    pass", "return 0",
+                     "if self.kept is None:\n    board.take_back()", "board.take_back()", "self.error = value",
+                     "self.error = kind", "board.deeds = board.deeds[1:]", "board.done = -1", "board = self.held.board",
+                     "board = trial.board", "return True", "for deed in board.deeds:\n    pass"):
+            self.assertFalse(is_row_of_leaving(ast.parse(text).body[0]), text)
+
+
+HANDED = ("kind", "value", "trace")
+
+
+def is_row_of_leaving(row):
+    """Whether a row may stand in `__exit__` by L6 With; of what is allowed there, only what this package needs."""
+    if isinstance(row, ast.If):
+        return asks_for_none(row.test) and all(map(is_row_of_leaving, row.body + row.orelse))
+    if isinstance(row, ast.Return):
+        return row.value is None or isinstance(row.value, ast.Constant) and (
+            row.value.value is None or row.value.value is False)
+    if isinstance(row, ast.Assign) and isinstance(row.targets[0], ast.Name):
+        return len(row.targets) == 1 and isinstance(row.value, ast.Attribute) and (
+            isinstance(row.value.value, ast.Name) and row.value.value.id == "self")
+    if isinstance(row, ast.Assign):
+        return all([is_attribute(target) for target in row.targets]) and is_plain(row.value)
+    return isinstance(row, ast.Pass)
+
+
+def asks_for_none(test):
+    """Whether a test asks by `is None`, and by `and`, `or`, `not` of this, alone.
+
+    Truth and == of an attribute may lead into a class of the package that has `__len__` or `__eq__`.
+    """
+    if isinstance(test, ast.BoolOp):
+        return all(map(asks_for_none, test.values))
+    if isinstance(test, ast.UnaryOp):
+        return isinstance(test.op, ast.Not) and asks_for_none(test.operand)
+    if not isinstance(test, ast.Compare) or len(test.ops) != 1 or not isinstance(test.ops[0], (ast.Is, ast.IsNot)):
+        return False
+    asked, beside = test.left, test.comparators[0]
+    if not isinstance(beside, ast.Constant) or beside.value is not None:
+        return False
+    return isinstance(asked, ast.Name) and asked.id == "kind" or (
+        is_plain(asked) and isinstance(asked, (ast.Name, ast.Attribute)))
+
+
+def is_plain(node):
+    """Whether a node is an attribute, a name, a written value or a tuple of such, and nothing that is handed in."""
+    if isinstance(node, ast.Tuple):
+        return all(map(is_plain, node.elts))
+    if isinstance(node, ast.Name):
+        return node.id not in HANDED
+    return isinstance(node, ast.Constant) or is_attribute(node)
+
+
+def is_attribute(node):
+    """Whether a node is an attribute of a name, or of such an attribute, and of nothing that is handed in."""
+    return isinstance(node, ast.Attribute) and (
+        isinstance(node.value, ast.Name) and node.value.id not in HANDED or is_attribute(node.value))
 
 
 def is_bound(node):

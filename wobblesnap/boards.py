@@ -13,7 +13,8 @@ class Before:
 
     def __init__(self, board):
         self.elder = board.before
-        self.kept = False
+        # None, and True once keep was called: a block's end may ask a value only whether it is None (L6 With).
+        self.kept = None
         self.deeds = board.deeds
         self.undone = board.undone
         self.points = board.points
@@ -35,7 +36,7 @@ class Trial:
 
     def __exit__(self, kind, value, trace):
         board = self.board
-        if kind is not None or not board.before.kept:
+        if kind is not None or board.before.kept is None:
             board.deeds = board.before.deeds
             board.undone = board.before.undone
             board.points = board.before.points
